@@ -1,0 +1,1 @@
+"""Doorwatch: doors and windows watched."""
