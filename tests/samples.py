@@ -81,3 +81,31 @@ def with_lists(thing):
 def other_lengths(part):
     """A tuple one longer, in front and behind, and one shorter, in front and behind."""
     return (part + (part[-1],), (part[0],) + part, part + (None,), part[:-1], part[1:])
+
+
+# For what happens: a zone of each kind, and a second way, by which one came already where mode is coming.
+WATCHED = (
+    (("d", "day"), ("gate", "way"), ("in", "way"), ("room", "inner"), ("win", "once")),
+    (
+        ("0000", "ann", ("set", "shunt", "unset"), 0),
+        ("1111", "bob", ("set",), 9),
+        ("2222", "cy", ("unset",), 1),
+        ("3333", "di", ("shunt",), 0),
+        ("4444", "ed", (), 0),
+    ),
+    (30, 20, 120),
+)
+MODES = ("off", "leaving", "on", "coming")
+LINES = ("shut", "open", "cut")
+
+
+def with_times(plan, leave, come, loud):
+    return plan[:2] + ((leave, come, loud),)
+
+
+def state_in(mode, lines=None, shunts=(), siren=0, alarms=(), tries=0, locked=0, used=(0, 0, 0, 0, 0)):
+    """A state of WATCHED in a mode, lines being a dict of those that are not shut."""
+    left = {"leaving": 30, "coming": 20}.get(mode, 0)
+    names = [zone[0] for zone in WATCHED[0]]
+    told = tuple((lines or {}).get(name, "shut") for name in names)
+    return (mode, left, "gate" if mode == "coming" else None, told, shunts, siren, alarms, tries, locked, used)

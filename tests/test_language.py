@@ -39,6 +39,11 @@ UNUSED_NAMES = set(
     " methodcaller os quit setattr super type vars sys chr print format format_map".split()
 )
 
+WALKED_AT_ONCE = {"zip", "enumerate", "reversed", "range", "items", "keys", "values"}
+WALKERS = {"list", "tuple", "dict", "sorted", "sum", "any", "all", "enumerate", "zip", "min", "max"}
+OWN_KINDS = (str, int, list, tuple, dict, set, frozenset, bytes)
+VALUES_LIKE_METHODS = set("count index title find get join lower upper split strip copy add".split())
+
 
 def files():
     return [path for path in sorted(PACKAGE.rglob("*")) if "__pycache__" not in path.parts]
@@ -78,6 +83,24 @@ def own_methods():
             if isinstance(node, ast.ClassDef):
                 found.update(part.name for part in node.body if isinstance(part, ast.FunctionDef))
     return found
+
+
+def called(node):
+    """The name that is called, or None."""
+    if not isinstance(node, ast.Call):
+        return None
+    return node.func.attr if isinstance(node.func, ast.Attribute) else getattr(node.func, "id", None)
+
+
+def walked_on_the_spot():
+    """All nodes that a loop, a comprehension or a call of L23 walks where they stand."""
+    found = []
+    for node, _ in nodes():
+        if isinstance(node, (ast.For, ast.comprehension)):
+            found.append(node.iter)
+        elif called(node) in WALKERS and node.args and (called(node) not in ("min", "max") or len(node.args) == 1):
+            found.extend(node.args if called(node) == "zip" else node.args[:1])
+    return {(ast.dump(node, include_attributes=True)) for node in found}
 
 
 class TestLanguage(unittest.TestCase):
@@ -212,6 +235,40 @@ class TestLanguage(unittest.TestCase):
                 self.assertNotIn(node.attr, UNUSED_NAMES, place)
             if isinstance(node, ast.Call) and isinstance(node.func, ast.Attribute):
                 self.assertIn(node.func.attr, METHODS | DUNDERS | own, place)
+
+    def test_values_of_objects(self):
+        methods = {name for kind in OWN_KINDS for name in dir(kind)} - VALUES_LIKE_METHODS
+        for node, place in nodes():
+            if isinstance(node, ast.Attribute) and isinstance(node.ctx, ast.Store):
+                self.assertIsInstance(node.value, ast.Name, place)
+                self.assertNotIn(node.attr, methods | own_methods() | {"args"}, place)
+
+    def test_methods_with_two_underscores(self):
+        for node, place in nodes():
+            if isinstance(node, ast.FunctionDef) and node.name.startswith("__"):
+                self.assertIn(node.name, DUNDERS, place)
+                if node.name == "__init__":
+                    self.assertFalse([part for part in ast.walk(node) if isinstance(part, ast.Return)], place)
+
+    def test_walked_at_once(self):
+        walked = walked_on_the_spot()
+        for node, place in nodes():
+            if called(node) in WALKED_AT_ONCE:
+                self.assertIn(ast.dump(node, include_attributes=True), walked, place)
+
+    def test_sets_stand_within_sorted_or_len_alone(self):
+        within = [part for node, _ in nodes() if called(node) in ("sorted", "len") for part in ast.walk(node)]
+        within = {ast.dump(part, include_attributes=True) for part in within}
+        for node, place in nodes():
+            self.assertNotIsInstance(node, ast.Set, place)
+            if called(node) in ("set", "frozenset"):
+                self.assertIn(ast.dump(node, include_attributes=True), within, place)
+
+    def test_errors_of_pythons_own_are_not_taken(self):
+        for node, place in nodes():
+            if isinstance(node, ast.ExceptHandler):
+                self.assertIsInstance(node.type, ast.Name, place)
+                self.assertNotIn(node.type.id, BUILT_IN - {"KeyError", "ZeroDivisionError", "StopIteration"}, place)
 
     def test_is_stands_beside_none_true_and_false_alone(self):
         for node, place in nodes():
