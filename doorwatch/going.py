@@ -103,6 +103,8 @@ class Course:
     def ticks(self, many):
         # Ticks go by all at once, up to the one that ends the time to leave or to come and behind it:
         # no other tick does more than count down.
+        if many < 1:
+            return
         if self.mode in ("leaving", "coming") and self.left <= many:
             rest = many - self.left
             self.count_down(self.left)

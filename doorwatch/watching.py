@@ -53,8 +53,12 @@ def apart(house, room):
     return first_apart(ways(house, room), len(fewest(house, room)))
 
 
-def quickest(house, room):
+def ways_at_all(house, room):
     through = ways(house, room)
     if not through:
         raise NoWay(f"no way leads to room {room!r}")
-    return min(through, key=lambda way: (len(way), way))
+    return through
+
+
+def quickest(house, room):
+    return min(ways_at_all(house, room), key=lambda way: (len(way), way))

@@ -1,6 +1,7 @@
 """The package's files keep to LANGUAGE.md, as far as a walk over their trees shows it."""
 
 import ast
+import functools
 import pathlib
 import re
 import unittest
@@ -43,12 +44,16 @@ WALKED_AT_ONCE = {"zip", "enumerate", "reversed", "range", "items", "keys", "val
 WALKERS = {"list", "tuple", "dict", "sorted", "sum", "any", "all", "enumerate", "zip", "min", "max"}
 OWN_KINDS = (str, int, list, tuple, dict, set, frozenset, bytes)
 VALUES_LIKE_METHODS = set("count index title find get join lower upper split strip copy add".split())
+KEYWORDS = {"sorted": {"key", "reverse"}, "min": {"key", "default"}, "max": {"key", "default"}, "sum": {"start"},
+            "enumerate": {"start"}, "zip": {"strict"}}
+CHANGES = set("append clear extend insert pop remove reverse setdefault update".split())
 
 
 def files():
     return [path for path in sorted(PACKAGE.rglob("*")) if "__pycache__" not in path.parts]
 
 
+@functools.lru_cache(None)
 def tree_of(path):
     return ast.parse(path.read_text(encoding="utf-8"), str(path))
 
@@ -93,14 +98,25 @@ def called(node):
 
 
 def walked_on_the_spot():
-    """All nodes that a loop, a comprehension or a call of L23 walks where they stand."""
+    """All nodes that a loop, a comprehension, a call of L23 or a written text's join walks where they stand."""
     found = []
     for node, _ in nodes():
         if isinstance(node, (ast.For, ast.comprehension)):
             found.append(node.iter)
         elif called(node) in WALKERS and node.args and (called(node) not in ("min", "max") or len(node.args) == 1):
             found.extend(node.args if called(node) == "zip" else node.args[:1])
-    return {(ast.dump(node, include_attributes=True)) for node in found}
+        elif called(node) == "join" and isinstance(node.func.value, ast.Constant):
+            found.extend(node.args)
+    return set(found)
+
+
+def is_changed(node, walked):
+    """Whether a node changes what the text of another node tells."""
+    if called(node) in CHANGES and isinstance(node.func, ast.Attribute):
+        return ast.unparse(node.func.value) == walked
+    if isinstance(node, ast.Subscript) and isinstance(node.ctx, ast.Store):
+        return ast.unparse(node.value) == walked
+    return isinstance(node, ast.AugAssign) and ast.unparse(node.target) == walked
 
 
 class TestLanguage(unittest.TestCase):
@@ -254,15 +270,29 @@ class TestLanguage(unittest.TestCase):
         walked = walked_on_the_spot()
         for node, place in nodes():
             if called(node) in WALKED_AT_ONCE:
-                self.assertIn(ast.dump(node, include_attributes=True), walked, place)
+                self.assertTrue(node in walked, place)
+
+    def test_what_a_loop_walks_is_not_changed_in_it(self):
+        for node, place in nodes():
+            if isinstance(node, ast.For):
+                within = [part for row in node.body for part in ast.walk(row)]
+                for walked in ast.walk(node.iter):
+                    if isinstance(walked, (ast.Name, ast.Attribute, ast.Subscript)):
+                        changes = [part for part in within if is_changed(part, ast.unparse(walked))]
+                        self.assertEqual(changes, [], place)
 
     def test_sets_stand_within_sorted_or_len_alone(self):
-        within = [part for node, _ in nodes() if called(node) in ("sorted", "len") for part in ast.walk(node)]
-        within = {ast.dump(part, include_attributes=True) for part in within}
+        within = {part for node, _ in nodes() if called(node) in ("sorted", "len") for part in ast.walk(node)}
         for node, place in nodes():
             self.assertNotIsInstance(node, ast.Set, place)
             if called(node) in ("set", "frozenset"):
-                self.assertIn(ast.dump(node, include_attributes=True), within, place)
+                self.assertTrue(node in within, place)
+
+    def test_keywords(self):
+        for node, place in nodes():
+            if isinstance(node, ast.Call):
+                allowed = KEYWORDS.get(called(node), set()) if isinstance(node.func, ast.Name) else set()
+                self.assertLessEqual({keyword.arg for keyword in node.keywords}, allowed, place)
 
     def test_errors_of_pythons_own_are_not_taken(self):
         for node, place in nodes():
@@ -290,6 +320,14 @@ class TestLanguage(unittest.TestCase):
             elif isinstance(node, ast.FormattedValue):
                 self.assertIsInstance(node.value, ast.Name, place)
                 self.assertIsNone(node.format_spec, place)
+            elif isinstance(node, ast.BinOp) and isinstance(node.op, ast.Pow):
+                self.assertIsInstance(node.right, ast.Constant, place)
+                self.assertIn(node.right.value, range(65), place)
+
+    def test_escapes(self):
+        for path in files():
+            for escape in re.findall(r"\\.", path.read_text(encoding="utf-8"), re.DOTALL):
+                self.assertIn(escape[1], "nt\\'\"", path)
 
 
 if __name__ == "__main__":

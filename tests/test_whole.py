@@ -1,11 +1,9 @@
-"""What holds for all plans, states and rows (DOC.md 0.2 (a) to (e), 0.3, 0.5) and the interface of these modules."""
+"""What holds for all plans, states and rows (DOC.md 0.2 (a) to (e), 0.3, 0.5)."""
 
 import copy
-import inspect
 import random
 import unittest
 
-from doorwatch import going, rows, watching
 from doorwatch.going import gone, words
 from doorwatch.plans import begun, kind_of
 from doorwatch.rows import after, first_loud, shown, story
@@ -259,17 +257,7 @@ class TestToldAndHandedIn(unittest.TestCase):
         self.assertEqual(quickest(wide, 8), (10,))
 
 
-class TestInterface(unittest.TestCase):
-    def test_arguments(self):
-        wanted = {
-            going: {"gone": 3, "words": 3},
-            rows: {"after": 3, "story": 3, "shown": 2, "first_loud": 3},
-            watching: {"fewest": 2, "apart": 2, "quickest": 2},
-        }
-        for module, functions in wanted.items():
-            for name, many in functions.items():
-                self.assertEqual(len(inspect.signature(getattr(module, name)).parameters), many, name)
-
+class TestOrdinaryDay(unittest.TestCase):
     def test_an_ordinary_day(self):
         state = begun(PLAN)
         row = (("code", "0420", "set", None), ("ticks", 30), ("line", "hall", "open"), ("ticks", 5),
